@@ -1,0 +1,314 @@
+package assize
+
+import (
+	"fmt"
+	"slices"
+	"sync"
+	"testing"
+	"time"
+
+	"assize/api"
+)
+
+func TestP1NoCallPanics(t *testing.T) {
+	lists := [][]int{nil, {}, oddNumbers, equals(12), equals(1_000_000)}
+	for _, n := range oddNumbers {
+		lists = append(lists, []int{n}, []int{1, n})
+	}
+	links := []api.Link{{Source: -1, Target: 99, Voters: oddNumbers}, {}}
+	for _, l := range lists {
+		New(l)
+		Judge(l, l, nil, links)
+		Judge(l, l, links, nil)
+	}
+	courts := notMade()
+	courts["new"] = court(t, equals(2))
+	courts["small"] = court(t, equals(2), 0, 1)
+	courts["full"] = full(t)
+	for _, c := range courts {
+		askOddly(c)
+	}
+}
+
+// askOddly: each call of a Court, at all odd numbers.
+func askOddly(c *Court) {
+	for _, a := range oddNumbers {
+		for _, b := range oddNumbers {
+			for _, d := range oddNumbers {
+				c.Vote(a, b, d)
+			}
+		}
+		c.Block(a)
+		c.Proof(a)
+	}
+	goThrough(c.All())
+	c.Just()
+	c.Final()
+	c.Guilty()
+}
+
+func TestP1FirstNamedError(t *testing.T) {
+	c := full(t)
+	for _, x := range []struct {
+		vote api.Vote
+		want api.Errno
+	}{
+		{api.Vote{Voter: 12, Source: -1, Target: 40}, api.ErrVoter},
+		{api.Vote{Voter: -1, Source: 1, Target: 1}, api.ErrVoter},
+		{api.Vote{Voter: 0, Source: 40, Target: 40}, api.ErrBlock},
+		{api.Vote{Voter: 0, Source: 39, Target: 40}, api.ErrBlock},
+		{api.Vote{Voter: 0, Source: 40, Target: 1}, api.ErrBlock},
+		{api.Vote{Voter: 0, Source: 1, Target: 0}, api.ErrLink},
+		{api.Vote{Voter: 0, Source: 0, Target: 1}, api.ErrTwice},
+		{api.Vote{Voter: 0, Source: 0, Target: 39}, api.ErrMany},
+	} {
+		if e := c.Vote(x.vote.Voter, x.vote.Source, x.vote.Target); e != x.want {
+			t.Errorf("Vote(%v): %d, want %d", x.vote, e, x.want)
+		}
+	}
+	for _, parent := range []int{-1, 40, 41} {
+		if _, e := c.Block(parent); e != api.ErrBlock {
+			t.Errorf("Block(%d) of a full tree: %d", parent, e)
+		}
+	}
+}
+
+func TestP1ErrorsChangeNothing(t *testing.T) {
+	small := court(t, []int{2, 1}, 0, 1, 0)
+	vote(t, small, api.Vote{Voter: 0, Source: 0, Target: 1}, api.Vote{Voter: 1, Source: 0, Target: 2})
+	for name, c := range map[string]*Court{"small": small, "full": full(t)} {
+		before := told(c)
+		errors := 0
+		for _, a := range []int{-1, 0, 12, 99} {
+			for _, b := range []int{-1, 0, 1, 2, 40} {
+				if e := c.Vote(a, b, 0); e == api.OK {
+					t.Errorf("%s: a vote for the root was given", name)
+				}
+				errors++
+			}
+		}
+		for _, parent := range []int{-1, 40, 99} {
+			if n, e := c.Block(parent); n != 0 || e != api.ErrBlock {
+				t.Errorf("%s: Block(%d): %d, %d", name, parent, n, e)
+			}
+			errors++
+		}
+		if after := told(c); after != before {
+			t.Errorf("%s: %d errors changed it:\n%s\n%s", name, errors, before, after)
+		}
+	}
+	if n, e := small.Block(3); n != 4 || e != api.OK {
+		t.Errorf("the block after those that were refused: %d, %d", n, e)
+	}
+}
+
+// TestP1TooManyIsTakenBack: what one too many has changed is seen nowhere, however often it is asked for.
+func TestP1TooManyIsTakenBack(t *testing.T) {
+	c := full(t)
+	before := told(c)
+	for range 3 {
+		if n, e := c.Block(39); n != 0 || e != api.ErrMany {
+			t.Errorf("one block too many: %d, %d", n, e)
+		}
+		if n, e := c.Block(40); n != 0 || e != api.ErrBlock {
+			t.Errorf("behind a block that was refused: %d, %d", n, e)
+		}
+		if e := c.Vote(0, 0, 40); e != api.ErrBlock {
+			t.Errorf("a vote for a block that was refused: %d", e)
+		}
+		if e := c.Vote(3, 38, 39); e != api.ErrMany {
+			t.Errorf("one vote too many: %d", e)
+		}
+	}
+	if after := told(c); after != before {
+		t.Errorf("changed:\n%s\n%s", before, after)
+	}
+}
+
+func TestP1NewAnswersNilBesideAnError(t *testing.T) {
+	if c, e := New(nil); c != nil || e == api.OK {
+		t.Errorf("New(nil): %v, %d", c, e)
+	}
+}
+
+func TestP1CourtsThatNewDidNotMake(t *testing.T) {
+	for name, c := range notMade() {
+		for _, a := range oddNumbers {
+			if n, e := c.Block(a); n != 0 || e != api.ErrClosed {
+				t.Errorf("%s: Block(%d): %d, %d", name, a, n, e)
+			}
+			if e := c.Vote(a, 0, 1); e != api.ErrClosed {
+				t.Errorf("%s: Vote(%d, 0, 1): %d", name, a, e)
+			}
+			if l, e := c.Proof(a); len(l) != 0 || e != api.ErrClosed {
+				t.Errorf("%s: Proof(%d): %v, %d", name, a, l, e)
+			}
+		}
+		if len(c.Just()) != 0 || len(c.Final()) != 0 || len(c.Guilty()) != 0 {
+			t.Errorf("%s: tells %v, %v, %v", name, c.Just(), c.Final(), c.Guilty())
+		}
+		all := c.All()
+		if all == nil {
+			t.Fatalf("%s: All answers no function", name)
+		}
+		for v := range all {
+			t.Errorf("%s: All gives %v", name, v)
+		}
+	}
+}
+
+// TestP1VotesAtATime: no vote of several goroutines is lost or given twice, and each voter's stay in their order.
+func TestP1VotesAtATime(t *testing.T) {
+	const blocks = 25
+	for range 5 {
+		c := court(t, equals(12), chain(blocks)...)
+		var wg sync.WaitGroup
+		for voter := range 12 {
+			wg.Go(func() {
+				for b := range blocks {
+					if e := c.Vote(voter, b, b+1); e != api.OK {
+						t.Errorf("Vote(%d, %d, %d): %d", voter, b, b+1, e)
+					}
+					c.Just()
+					c.Final()
+					goThrough(c.All())
+				}
+			})
+		}
+		wg.Wait()
+		var next [12]int
+		for v := range c.All() {
+			if v.Source != next[v.Voter] {
+				t.Fatalf("%v came after that from %d", v, next[v.Voter])
+			}
+			next[v.Voter]++
+		}
+		for voter, n := range next {
+			if n != blocks {
+				t.Errorf("of the voter %d there are %d votes", voter, n)
+			}
+		}
+		equal(t, "Final", c.Final(), chain(blocks)...)
+	}
+}
+
+// TestP1OneOfTheSame: of many who do the same at a time, as many have their way as if each came alone.
+func TestP1OneOfTheSame(t *testing.T) {
+	for range 50 {
+		c := court(t, equals(1), 0)
+		var votes [8]api.Errno
+		var blocks [8][8]int
+		var wg sync.WaitGroup
+		for i := range 8 {
+			wg.Go(func() {
+				votes[i] = c.Vote(0, 0, 1)
+				for j := range 8 {
+					blocks[i][j], _ = c.Block(0)
+				}
+			})
+		}
+		wg.Wait()
+		given, laid := 0, map[int]int{}
+		for i := range 8 {
+			if votes[i] == api.OK {
+				given++
+			} else if votes[i] != api.ErrTwice {
+				t.Errorf("Vote: %d", votes[i])
+			}
+			for _, b := range blocks[i] {
+				laid[b]++
+			}
+		}
+		if given != 1 {
+			t.Errorf("one vote was given %d times", given)
+		}
+		for b := 2; b < api.MaxBlocks; b++ {
+			if laid[b] != 1 {
+				t.Errorf("the block %d was laid %d times", b, laid[b])
+			}
+		}
+		if laid[0] != 8*8-(api.MaxBlocks-2) {
+			t.Errorf("%d blocks were refused", laid[0])
+		}
+	}
+}
+
+// TestP1AskedWhileAll: each call, while the votes are gone through, and All gives those of its beginning.
+func TestP1AskedWhileAll(t *testing.T) {
+	c := court(t, equals(3), 0, 1)
+	vote(t, c, api.Vote{Voter: 0, Source: 0, Target: 1}, api.Vote{Voter: 1, Source: 0, Target: 1})
+	all := c.All()
+	vote(t, c, api.Vote{Voter: 2, Source: 0, Target: 1})
+	var got []api.Vote
+	for v := range all {
+		got = append(got, v)
+		vote(t, c, api.Vote{Voter: v.Voter, Source: 1, Target: 2})
+		if n, e := c.Block(2); n != 2+len(got) || e != api.OK {
+			t.Errorf("Block within All: %d, %d", n, e)
+		}
+		equal(t, "Final within All", c.Final(), []int{0, 1}[:len(got)]...)
+		c.Just()
+		c.Guilty()
+		c.Proof(0)
+		goThrough(c.All())
+	}
+	if s := fmt.Sprint(got); s != "[{0 0 1} {1 0 1}]" {
+		t.Errorf("All gave %s", s)
+	}
+	if s := fmt.Sprint(slices.Collect(c.All())); s != "[{0 0 1} {1 0 1} {2 0 1} {0 1 2} {1 1 2}]" {
+		t.Errorf("All gives %s", s)
+	}
+}
+
+// TestP1AllOfNoVotes: votes that come after All are not in what it answered, even if there were none.
+func TestP1AllOfNoVotes(t *testing.T) {
+	c := court(t, equals(1), 0)
+	all := c.All()
+	vote(t, c, api.Vote{Voter: 0, Source: 0, Target: 1})
+	if got := slices.Collect(all); len(got) != 0 {
+		t.Errorf("All gave %v", got)
+	}
+}
+
+// TestP1AskedByOthersWhileAll: another goroutine may ask too, while one stays within All.
+func TestP1AskedByOthersWhileAll(t *testing.T) {
+	c := court(t, equals(2), 0)
+	vote(t, c, api.Vote{Voter: 0, Source: 0, Target: 1})
+	for range c.All() {
+		done := make(chan api.Errno)
+		go func() { done <- c.Vote(1, 0, 1) }()
+		if e := <-done; e != api.OK {
+			t.Errorf("Vote: %d", e)
+		}
+	}
+}
+
+// TestP1EachCallWaits: while one call has the mutex, no other one comes to its end.
+func TestP1EachCallWaits(t *testing.T) {
+	c := court(t, equals(1), 0)
+	for name, call := range map[string]func(){
+		"Block": func() { c.Block(0) },
+		"Vote":  func() { c.Vote(0, 0, 1) },
+		"All":   func() { c.All() },
+		"Just":  func() { c.Just() },
+		"Final": func() { c.Final() },
+	} {
+		ended := make(chan int)
+		c.mutex.Lock()
+		go func() {
+			call()
+			close(ended)
+		}()
+		select {
+		case <-ended:
+			t.Errorf("%s did not wait", name)
+		case <-time.After(20 * time.Millisecond):
+		}
+		c.mutex.Unlock()
+		<-ended
+		if !c.mutex.TryLock() {
+			t.Fatalf("%s kept the mutex", name)
+		}
+		c.mutex.Unlock()
+	}
+}

@@ -65,7 +65,7 @@ func (c *Court) Just() []int {
 	if !c.made() {
 		return nil
 	}
-	return numbersOf(c.justBlocks())
+	return c.justBlocks()
 }
 
 // Final tells which blocks are final (P5).
@@ -75,11 +75,18 @@ func (c *Court) Final() []int {
 	if !c.made() {
 		return nil
 	}
-	return numbersOf(c.finalBlocks())
+	return c.finalBlocks()
 }
 
 // Guilty tells who gave votes that nobody may (P6).
-func (c *Court) Guilty() []api.Guilt { return nil }
+func (c *Court) Guilty() []api.Guilt {
+	c.lock()
+	defer c.unlock()
+	if !c.made() {
+		return nil
+	}
+	return c.guilty()
+}
 
 // Proof shows that a block is final (P7).
 func (c *Court) Proof(block int) ([]api.Link, api.Errno) {
@@ -88,7 +95,7 @@ func (c *Court) Proof(block int) ([]api.Link, api.Errno) {
 	if !c.made() {
 		return nil, api.ErrClosed
 	}
-	return nil, api.OK
+	return c.prove(block)
 }
 
 // Judge tells who is guilty, by two proofs alone (P8).

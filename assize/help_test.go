@@ -4,6 +4,7 @@ import (
 	"fmt"
 	"iter"
 	"math"
+	"math/rand"
 	"slices"
 	"testing"
 
@@ -38,6 +39,37 @@ func vote(t *testing.T, c *Court, votes ...api.Vote) {
 	}
 }
 
+// votesOf: each written as voter, source, target.
+func votesOf(list [][3]int) []api.Vote {
+	var votes []api.Vote
+	for _, v := range list {
+		votes = append(votes, api.Vote{Voter: v[0], Source: v[1], Target: v[2]})
+	}
+	return votes
+}
+
+// drawn: weights, parents and votes of a small Court, that has them; votes that it refused are not told.
+func drawn(t *testing.T, r *rand.Rand, voters int, blocks int, tries int) (*Court, []int, []int, []api.Vote) {
+	t.Helper()
+	weights := make([]int, 1+r.Intn(voters))
+	for i := range weights {
+		weights[i] = 1 + r.Intn(4)
+	}
+	parents := make([]int, 1+r.Intn(blocks))
+	for i := range parents {
+		parents[i] = max(r.Intn(i+1), r.Intn(i+1))
+	}
+	c := court(t, weights, parents...)
+	var votes []api.Vote
+	for range r.Intn(tries) {
+		v := api.Vote{Voter: r.Intn(len(weights)), Source: r.Intn(len(parents) + 1), Target: r.Intn(len(parents) + 1)}
+		if c.Vote(v.Voter, v.Source, v.Target) == api.OK {
+			votes = append(votes, v)
+		}
+	}
+	return c, weights, parents, votes
+}
+
 // equals: a number of voters of the weight 1.
 func equals(count int) []int {
 	return slices.Repeat([]int{1}, count)
@@ -68,7 +100,12 @@ func told(c *Court) string {
 	if c.made() {
 		blocks = c.blocks.Count()
 	}
-	return fmt.Sprint(slices.Collect(c.All()), c.Just(), c.Final(), blocks)
+	words := fmt.Sprint(slices.Collect(c.All()), c.Just(), c.Final(), c.Guilty(), blocks)
+	for block := -1; block <= blocks; block++ {
+		proof, e := c.Proof(block)
+		words += fmt.Sprint(" ", block, proof, e)
+	}
+	return words
 }
 
 // goThrough: to the end.

@@ -66,9 +66,13 @@ func TestP1FirstNamedError(t *testing.T) {
 			t.Errorf("Vote(%v): %d, want %d", x.vote, e, x.want)
 		}
 	}
-	for _, parent := range []int{-1, 40, 41} {
-		if _, e := c.Block(parent); e != api.ErrBlock {
-			t.Errorf("Block(%d) of a full tree: %d", parent, e)
+	for _, block := range []int{-1, 40, 41} {
+		if _, e := c.Block(block); e != api.ErrBlock {
+			t.Errorf("Block(%d) of a full tree: %d", block, e)
+		}
+		// What is no block is not final either.
+		if _, e := c.Proof(block); e != api.ErrBlock {
+			t.Errorf("Proof(%d) of a full tree: %d", block, e)
 		}
 	}
 }
@@ -92,7 +96,15 @@ func TestP1ErrorsChangeNothing(t *testing.T) {
 				t.Errorf("%s: Block(%d): %d, %d", name, parent, n, e)
 			}
 			errors++
+			if l, e := c.Proof(parent); len(l) != 0 || e != api.ErrBlock {
+				t.Errorf("%s: Proof(%d): %v, %d", name, parent, l, e)
+			}
+			errors++
 		}
+		if l, e := c.Proof(3); len(l) != 0 || e != api.ErrNone {
+			t.Errorf("%s: Proof(3): %v, %d", name, l, e)
+		}
+		errors++
 		if after := told(c); after != before {
 			t.Errorf("%s: %d errors changed it:\n%s\n%s", name, errors, before, after)
 		}
@@ -171,6 +183,8 @@ func TestP1VotesAtATime(t *testing.T) {
 					}
 					c.Just()
 					c.Final()
+					c.Guilty()
+					c.Proof(b)
 					goThrough(c.All())
 				}
 			})
@@ -189,6 +203,44 @@ func TestP1VotesAtATime(t *testing.T) {
 			}
 		}
 		equal(t, "Final", c.Final(), chain(blocks)...)
+	}
+}
+
+// TestP1ShownAtATime: whenever they are asked for, each proof is right, and each guilt of votes that were given.
+func TestP1ShownAtATime(t *testing.T) {
+	const blocks = 12
+	parents := chain(blocks)
+	c := court(t, equals(6), parents...)
+	var wg sync.WaitGroup
+	for voter := range 6 {
+		wg.Go(func() {
+			for b := range blocks {
+				c.Vote(voter, b, b+1)
+				c.Vote(voter, 0, b+1)
+			}
+		})
+		wg.Go(func() {
+			for b := range blocks {
+				final := slices.Contains(c.Final(), b)
+				proof, e := c.Proof(b)
+				if e == api.OK {
+					rightProof(t, equals(6), parents, b, proof)
+				} else if final || e != api.ErrNone {
+					t.Errorf("Proof(%d): %d, and final is %v", b, e, final)
+				}
+				guilty := c.Guilty()
+				all := slices.Collect(c.All())
+				for _, g := range guilty {
+					if one, other := slices.Index(all, g.One), slices.Index(all, g.Other); one < 0 || other <= one {
+						t.Errorf("%v: its votes are at %d and %d", g, one, other)
+					}
+				}
+			}
+		})
+	}
+	wg.Wait()
+	if n := len(c.Guilty()); n != 6 {
+		t.Errorf("%d are guilty", n)
 	}
 }
 
@@ -249,7 +301,9 @@ func TestP1AskedWhileAll(t *testing.T) {
 		equal(t, "Final within All", c.Final(), []int{0, 1}[:len(got)]...)
 		c.Just()
 		c.Guilty()
-		c.Proof(0)
+		if proof, e := c.Proof(0); fmt.Sprint(proof, e) != "[{0 1 [0 1 2]}] 0" {
+			t.Errorf("Proof within All: %v, %d", proof, e)
+		}
 		goThrough(c.All())
 	}
 	if s := fmt.Sprint(got); s != "[{0 0 1} {1 0 1}]" {
@@ -287,11 +341,14 @@ func TestP1AskedByOthersWhileAll(t *testing.T) {
 func TestP1EachCallWaits(t *testing.T) {
 	c := court(t, equals(1), 0)
 	for name, call := range map[string]func(){
-		"Block": func() { c.Block(0) },
-		"Vote":  func() { c.Vote(0, 0, 1) },
-		"All":   func() { c.All() },
-		"Just":  func() { c.Just() },
-		"Final": func() { c.Final() },
+		"Block":             func() { c.Block(0) },
+		"Vote":              func() { c.Vote(0, 0, 1) },
+		"All":               func() { c.All() },
+		"Just":              func() { c.Just() },
+		"Final":             func() { c.Final() },
+		"Guilty":            func() { c.Guilty() },
+		"Proof":             func() { c.Proof(0) },
+		"Proof of no block": func() { c.Proof(9) },
 	} {
 		ended := make(chan int)
 		c.mutex.Lock()

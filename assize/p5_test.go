@@ -39,9 +39,7 @@ func TestP5JustAndFinal(t *testing.T) {
 		{"final by a child of a greater number", equals(1), []int{0, 0, 0}, [][3]int{{0, 0, 3}}, []int{0, 3}, []int{0}},
 	} {
 		c := court(t, x.weights, x.parents...)
-		for _, v := range x.votes {
-			vote(t, c, api.Vote{Voter: v[0], Source: v[1], Target: v[2]})
-		}
+		vote(t, c, votesOf(x.votes)...)
 		equal(t, x.name+": Just", c.Just(), x.just...)
 		equal(t, x.name+": Final", c.Final(), x.final...)
 	}
@@ -56,6 +54,16 @@ func TestP5EachVoterOfTheMost(t *testing.T) {
 			want = []int{0, 1}
 		}
 		equal(t, "Just", c.Just(), want...)
+	}
+}
+
+// TestP5LongestLine: the last block is as far from the root as there may be.
+func TestP5LongestLine(t *testing.T) {
+	c := court(t, equals(1), chain(39)...)
+	for b := range 39 {
+		vote(t, c, api.Vote{Voter: 0, Source: b, Target: b + 1})
+		equal(t, "Just", c.Just(), chain(b+2)...)
+		equal(t, "Final", c.Final(), chain(b+1)...)
 	}
 }
 
@@ -114,22 +122,7 @@ func TestP5AgainstTheWords(t *testing.T) {
 	r := rand.New(rand.NewSource(5))
 	many := 0
 	for range 2000 {
-		weights := make([]int, 1+r.Intn(4))
-		for i := range weights {
-			weights[i] = 1 + r.Intn(4)
-		}
-		parents := make([]int, 1+r.Intn(7))
-		for i := range parents {
-			parents[i] = r.Intn(i + 1)
-		}
-		c := court(t, weights, parents...)
-		var votes []api.Vote
-		for range r.Intn(120) {
-			v := api.Vote{Voter: r.Intn(len(weights)), Source: r.Intn(len(parents) + 1), Target: r.Intn(len(parents) + 1)}
-			if c.Vote(v.Voter, v.Source, v.Target) == api.OK {
-				votes = append(votes, v)
-			}
-		}
+		c, weights, parents, votes := drawn(t, r, 4, 7, 120)
 		just, final := byTheWords(weights, parents, votes)
 		equal(t, "Just", c.Just(), just...)
 		equal(t, "Final", c.Final(), final...)

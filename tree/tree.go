@@ -50,6 +50,15 @@ func (t *Tree) Ahead(block int) iter.Seq[int] {
 	}
 }
 
+// Height tells how many blocks are ahead of a block.
+func (t *Tree) Height(block int) int {
+	height := 0
+	for range t.Ahead(block) {
+		height++
+	}
+	return height
+}
+
 // IsAhead tells if a block is ahead of another one.
 func (t *Tree) IsAhead(block int, other int) bool {
 	for ahead := range t.Ahead(other) {

@@ -56,6 +56,22 @@ func TestAhead(t *testing.T) {
 	}
 }
 
+func TestHeight(t *testing.T) {
+	blocks := grown(0, 0, 1, 2, 3, 0)
+	for block, want := range []int{0, 1, 1, 2, 2, 3, 1} {
+		if got := blocks.Height(block); got != want {
+			t.Errorf("Height(%d): %d, want %d", block, got, want)
+		}
+	}
+	line := grown()
+	for block := range 39 {
+		line.Lay(block)
+		if got := line.Height(block + 1); got != block+1 {
+			t.Errorf("Height(%d) of a line: %d", block+1, got)
+		}
+	}
+}
+
 func TestAheadLeftEarly(t *testing.T) {
 	blocks := grown(0, 1, 2, 3)
 	var got []int
@@ -74,7 +90,7 @@ func TestNoSuchBlock(t *testing.T) {
 	var none Tree
 	for _, blocks := range []*Tree{&none, grown(0, 1)} {
 		for _, block := range []int{math.MinInt, -1, 3, math.MaxInt} {
-			if blocks.Has(block) || blocks.IsAhead(0, block) || blocks.IsAhead(block, 2) || blocks.IsParent(0, block) {
+			if blocks.Has(block) || blocks.IsAhead(0, block) || blocks.IsAhead(block, 2) || blocks.IsParent(0, block) || blocks.Height(block) != 0 {
 				t.Errorf("%d is no block", block)
 			}
 		}

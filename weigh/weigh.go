@@ -33,6 +33,15 @@ func (w Weights) Total() int {
 	return total
 }
 
+// Of is the weight of these voters together, all of whom there are.
+func (w Weights) Of(voters []int) int {
+	weight := 0
+	for _, voter := range voters {
+		weight += w[voter]
+	}
+	return weight
+}
+
 // Enough tells if a part of the weight is at least two thirds of all.
 func (w Weights) Enough(part int) bool {
 	// Thirds by multiplying: a division would round.

@@ -40,6 +40,20 @@ func TestHas(t *testing.T) {
 	}
 }
 
+func TestOf(t *testing.T) {
+	w := Weights{5, 6, 100}
+	for _, x := range []struct {
+		voters []int
+		want   int
+	}{
+		{nil, 0}, {[]int{}, 0}, {[]int{0}, 5}, {[]int{1}, 6}, {[]int{0, 2}, 105}, {[]int{0, 1, 2}, w.Total()},
+	} {
+		if got := w.Of(x.voters); got != x.want {
+			t.Errorf("Of(%v): %d, want %d", x.voters, got, x.want)
+		}
+	}
+}
+
 func TestEnough(t *testing.T) {
 	for _, x := range []struct {
 		weights Weights

@@ -100,5 +100,12 @@ func (c *Court) Proof(block int) ([]api.Link, api.Errno) {
 
 // Judge tells who is guilty, by two proofs alone (P8).
 func Judge(weights []int, parents []int, one []api.Link, other []api.Link) (api.Verdict, api.Errno) {
-	return api.Verdict{}, api.OK
+	switch {
+	case !weigh.Right(weights):
+		return api.Verdict{}, api.ErrWeights
+	case !tree.Right(parents):
+		return api.Verdict{}, api.ErrTree
+	}
+	asked := suit{weights: weights, blocks: tree.Grown(parents), one: one, other: other}
+	return asked.judge()
 }

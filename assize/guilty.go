@@ -19,10 +19,8 @@ func (c *Court) guilty() []api.Guilt {
 func (c *Court) guiltOf(voter int) (api.Guilt, bool) {
 	votes := c.votesOf(voter)
 	for i, one := range votes {
-		for _, other := range votes[i+1:] {
-			if kind := guilt.Kind(&c.blocks, one, other); kind != guilt.Neither {
-				return api.Guilt{Voter: voter, Kind: kind, One: one, Other: other}, true
-			}
+		if found, is := guilt.First(&c.blocks, one, votes[i+1:]); is {
+			return found, true
 		}
 	}
 	return api.Guilt{}, false

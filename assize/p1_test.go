@@ -15,11 +15,8 @@ func TestP1NoCallPanics(t *testing.T) {
 	for _, n := range oddNumbers {
 		lists = append(lists, []int{n}, []int{1, n})
 	}
-	links := []api.Link{{Source: -1, Target: 99, Voters: oddNumbers}, {}}
 	for _, l := range lists {
 		New(l)
-		Judge(l, l, nil, links)
-		Judge(l, l, links, nil)
 	}
 	courts := notMade()
 	courts["new"] = court(t, equals(2))
@@ -45,6 +42,108 @@ func askOddly(c *Court) {
 	c.Just()
 	c.Final()
 	c.Guilty()
+}
+
+// TestP1JudgeOddLists: each list in each place, the others right or odd too.
+func TestP1JudgeOddLists(t *testing.T) {
+	const long = 1_000_000
+	lists := [][]int{nil, {}, {0}, {1}, oddNumbers, equals(3), equals(12), twin(), equals(long), make([]int, long), chain(long)}
+	proofs := [][]api.Link{
+		nil, {}, {{}}, {{}, {}}, proofOf1(), proofOf6(),
+		{{Source: -1, Target: 99, Voters: oddNumbers}},
+		{{Source: 0, Target: 1, Voters: oddNumbers}},
+		{{Source: 0, Target: 1, Voters: chain(long)}},
+		{{Source: 0, Target: 1, Voters: equals(long)}, {Source: 1, Target: 2, Voters: make([]int, long)}},
+		make([]api.Link, long),
+		slices.Repeat(proofOf1(), long/2),
+	}
+	for _, weights := range lists {
+		for _, parents := range lists {
+			for _, one := range proofs {
+				for _, other := range proofs {
+					judged(t, weights, parents, one, other)
+				}
+			}
+		}
+	}
+}
+
+// TestP1JudgeOddNumbers: each number of a right suit becomes each odd one.
+func TestP1JudgeOddNumbers(t *testing.T) {
+	for _, odd := range oddNumbers {
+		for at := range 3 {
+			judged(t, with(equals(3), at, odd), twin(), proofOf1(), proofOf6())
+		}
+		for at := range twin() {
+			judged(t, equals(3), with(twin(), at, odd), proofOf1(), proofOf6())
+		}
+		for at := range 2 {
+			for field := range 4 {
+				for _, wrong := range [][]api.Link{proofOf1(), proofOf6()} {
+					link := &wrong[at]
+					*[]*int{&link.Source, &link.Target, &link.Voters[0], &link.Voters[1]}[field] = odd
+					got, e := Judge(equals(3), twin(), wrong, proofOf6())
+					want, error := judgeByTheWords(equals(3), twin(), wrong, proofOf6())
+					if e != error || got.Weight != want.Weight || !slices.Equal(got.Guilty, want.Guilty) {
+						t.Errorf("%v: %v, %d, want %v, %d", wrong, got, e, want, error)
+					}
+				}
+			}
+		}
+	}
+}
+
+// TestP1JudgeFirstNamedError: each mixture of what may be wrong.
+func TestP1JudgeFirstNamedError(t *testing.T) {
+	wrong := linksOf([]int{0, 1, 0, 1}, []int{1, 3, 0, 1})
+	for _, weights := range [][]int{equals(3), {1, 1, 0}} {
+		for _, parents := range [][]int{twin(), with(twin(), 10, 10)} {
+			for _, pair := range []struct {
+				one, other []api.Link
+				want       api.Errno
+			}{
+				{proofOf1(), proofOf6(), api.OK},
+				{proofOf1(), proofOf1(), api.ErrAgree},
+				{wrong, proofOf6(), api.ErrProof},
+				{proofOf6(), wrong, api.ErrProof},
+				// Their last sources are the same block: were they right, they would agree.
+				{wrong, proofOf1(), api.ErrProof},
+				{proofOf1(), wrong, api.ErrProof},
+				{wrong, wrong, api.ErrProof},
+				{nil, nil, api.ErrProof},
+			} {
+				want := pair.want
+				if parents[10] == 10 {
+					want = api.ErrTree
+				}
+				if weights[2] == 0 {
+					want = api.ErrWeights
+				}
+				if want != api.OK {
+					refused(t, "mixed", want, weights, parents, pair.one, pair.other)
+				} else if _, e := Judge(weights, parents, pair.one, pair.other); e != want {
+					t.Errorf("nothing is wrong: %d", e)
+				}
+			}
+		}
+	}
+}
+
+// TestP1JudgeAtATime: several goroutines may hand in the same lists, and each is answered as if it came alone.
+func TestP1JudgeAtATime(t *testing.T) {
+	weights, parents, one, other := equals(3), twin(), proofOf1(), proofOf6()
+	var wg sync.WaitGroup
+	for range 8 {
+		wg.Go(func() {
+			for range 200 {
+				verdict, e := Judge(weights, parents, one, other)
+				if got := fmt.Sprint(verdict, e); got != "{[{1 1 {1 0 1} {1 0 6}}] 1} 0" {
+					t.Errorf("Judge: %s", got)
+				}
+			}
+		})
+	}
+	wg.Wait()
 }
 
 func TestP1FirstNamedError(t *testing.T) {

@@ -201,3 +201,118 @@ func TestP2CourtsKnowNothingOfEachOther(t *testing.T) {
 		t.Errorf("Guilty of the other: %v", guilty)
 	}
 }
+
+// roomy: a list with more behind it.
+func roomy(list []int) []int {
+	return append(slices.Clone(list), 77, 78, 79)[:len(list)]
+}
+
+// roomyProof: with more behind it, and behind each list of voters.
+func roomyProof(proof []api.Link) []api.Link {
+	more := make([]api.Link, 0, len(proof)+2)
+	for _, link := range proof {
+		more = append(more, api.Link{Source: link.Source, Target: link.Target, Voters: roomy(link.Voters)})
+	}
+	return append(more, linksOf([]int{77, 78, 79}, []int{80, 81})...)[:len(proof)]
+}
+
+// wholeProof: a proof in words, with what stands behind it, and behind each list of voters.
+func wholeProof(proof []api.Link) string {
+	words := ""
+	for _, link := range proof[:cap(proof)] {
+		words += fmt.Sprint(link.Source, link.Target, link.Voters[:cap(link.Voters)], " ")
+	}
+	return words
+}
+
+// TestP2JudgeWritesIntoNothing: whatever the answer, what is handed in, deep, with what stands behind it, is as it was.
+func TestP2JudgeWritesIntoNothing(t *testing.T) {
+	for _, x := range []struct {
+		weights, parents []int
+		one, other       []api.Link
+		want             api.Errno
+	}{
+		{equals(3), twin(), proofOf1(), proofOf6(), api.OK},
+		{equals(3), twin(), proofOf6(), proofOf1(), api.OK},
+		{[]int{1, 101, 1}, twin(), proofOf1(), proofOf6(), api.ErrWeights},
+		{equals(3), with(twin(), 4, 4), proofOf1(), proofOf6(), api.ErrTree},
+		{equals(3), with(twin(), 0, 1), proofOf1(), proofOf6(), api.ErrTree},
+		{equals(3), twin(), linksOf([]int{0, 1, 2, 1}, []int{1, 2, 0, 1}), proofOf6(), api.ErrProof},
+		{equals(3), twin(), proofOf1(), linksOf([]int{6, 7, 1, 2}, []int{0, 6, 1, 2}), api.ErrProof},
+		{equals(3), twin(), proofOf1(), linksOf([]int{0, 1, 1, 2}), api.ErrAgree},
+	} {
+		weights, parents, one, other := roomy(x.weights), roomy(x.parents), roomyProof(x.one), roomyProof(x.other)
+		told := func() string {
+			return fmt.Sprint(weights[:cap(weights)], parents[:cap(parents)], wholeProof(one), wholeProof(other))
+		}
+		before := told()
+		if _, e := Judge(weights, parents, one, other); e != x.want {
+			t.Errorf("Judge: %d, want %d", e, x.want)
+		}
+		if after := told(); after != before {
+			t.Errorf("the answer %d wrote into what was handed in:\n%s\n%s", x.want, before, after)
+		}
+	}
+}
+
+// TestP2JudgeKeepsNothing: neither a Verdict nor what comes after it hangs on what becomes of what was handed in.
+func TestP2JudgeKeepsNothing(t *testing.T) {
+	const want = "{[{1 1 {1 0 1} {1 0 6}}] 1} 0"
+	weights, parents, one, other := equals(3), twin(), proofOf1(), proofOf6()
+	verdict, e := Judge(weights, parents, one, other)
+	spoil(weights)
+	spoil(parents)
+	spoilProof(one)
+	spoilProof(other)
+	if got := fmt.Sprint(verdict, e); got != want {
+		t.Errorf("the Verdict of before: %s", got)
+	}
+	if got := judged(t, equals(3), twin(), proofOf1(), proofOf6()); got != want {
+		t.Errorf("judged anew: %s", got)
+	}
+}
+
+// TestP2VerdictsAreNewMemory: whatever is written into one, its spare room too, another one stays, and what was handed in.
+func TestP2VerdictsAreNewMemory(t *testing.T) {
+	c := court(t, equals(4), twin()[1:]...)
+	for _, link := range [][2]int{{0, 1}, {1, 2}, {0, 6}, {6, 7}} {
+		for voter := range 4 {
+			vote(t, c, api.Vote{Voter: voter, Source: link[0], Target: link[1]})
+		}
+	}
+	before := told(c)
+	one, _ := c.Proof(1)
+	other, _ := c.Proof(6)
+	proofs := wholeProof(one) + wholeProof(other)
+	first, _ := Judge(equals(4), twin(), one, other)
+	second, _ := Judge(equals(4), twin(), one, other)
+	if len(first.Guilty) != 4 {
+		t.Fatalf("Judge: %v", first)
+	}
+	kept := fmt.Sprint(second)
+	spoilGuilty(first.Guilty)
+	if got := fmt.Sprint(second); got != kept {
+		t.Errorf("beside one that was written into: %s, want %s", got, kept)
+	}
+	if got := wholeProof(one) + wholeProof(other); got != proofs {
+		t.Errorf("the proofs that were handed in: %s, want %s", got, proofs)
+	}
+	if after := told(c); after != before {
+		t.Errorf("the Court that gave the proofs:\n%s\n%s", before, after)
+	}
+}
+
+// TestP2JudgeOfSharedLists: what the caller shares among the lists that are handed in changes no answer.
+func TestP2JudgeOfSharedLists(t *testing.T) {
+	numbers := append(twin(), 1, 1, 1, 0, 1, 2)
+	parents, weights, voters := numbers[:11], numbers[11:14], numbers[14:]
+	links := []api.Link{{Source: 0, Target: 1, Voters: voters}, {Source: 1, Target: 2, Voters: voters}, {Source: 0, Target: 6, Voters: voters}, {Source: 6, Target: 7, Voters: voters}}
+	kept := fmt.Sprint(numbers, links)
+	if got := judged(t, weights, parents, links[:2], links[2:]); got != "{[{0 1 {0 0 1} {0 0 6}} {1 1 {1 0 1} {1 0 6}} {2 1 {2 0 1} {2 0 6}}] 3} 0" {
+		t.Errorf("Judge: %s", got)
+	}
+	refused(t, "one proof, twice", api.ErrAgree, weights, parents, links[:2], links[:2])
+	if got := fmt.Sprint(numbers, links); got != kept {
+		t.Errorf("what was handed in: %s, want %s", got, kept)
+	}
+}

@@ -24,6 +24,16 @@ func Kind(blocks *tree.Tree, one api.Vote, other api.Vote) int {
 	return Neither
 }
 
+// First finds the first of others that nobody may give beside one.
+func First(blocks *tree.Tree, one api.Vote, others []api.Vote) (api.Guilt, bool) {
+	for _, other := range others {
+		if kind := Kind(blocks, one, other); kind != Neither {
+			return api.Guilt{Voter: one.Voter, Kind: kind, One: one, Other: other}, true
+		}
+	}
+	return api.Guilt{}, false
+}
+
 // span is a vote by its heights alone: whether the blocks lie on one branch is of no weight.
 type span struct {
 	source int

@@ -57,3 +57,30 @@ func TestKind(t *testing.T) {
 		}
 	}
 }
+
+func TestFirst(t *testing.T) {
+	one := api.Vote{Voter: 2, Source: 1, Target: 2}
+	behind, around := api.Vote{Voter: 2, Source: 2, Target: 3}, api.Vote{Voter: 2, Source: 0, Target: 3}
+	double, another := api.Vote{Voter: 2, Source: 0, Target: 2}, api.Vote{Voter: 1, Source: 0, Target: 2}
+	for _, x := range []struct {
+		name   string
+		others []api.Vote
+		kind   int
+		want   api.Vote
+	}{
+		{"none", nil, Neither, api.Vote{}},
+		{"none that may not be", []api.Vote{one, behind, another}, Neither, api.Vote{}},
+		{"the last one", []api.Vote{one, behind, another, double}, api.Double, double},
+		{"double ahead of around", []api.Vote{behind, double, around}, api.Double, double},
+		{"around ahead of double", []api.Vote{around, double, behind}, api.Around, around},
+	} {
+		got, is := First(twoBranches(), one, x.others)
+		want := api.Guilt{Voter: 2, Kind: x.kind, One: one, Other: x.want}
+		if x.kind == Neither {
+			want = api.Guilt{}
+		}
+		if got != want || is != (x.kind != Neither) {
+			t.Errorf("%s: %v, %v, want %v", x.name, got, is, want)
+		}
+	}
+}

@@ -1,7 +1,12 @@
 // Package tree: blocks, each behind its parent, up to the root.
 package tree
 
-import "iter"
+import (
+	"iter"
+	"slices"
+
+	"assize/api"
+)
 
 // Root is the block that has no parent.
 const Root = 0
@@ -15,6 +20,24 @@ type Tree struct {
 // Planted is a Tree with the root alone.
 func Planted() Tree {
 	return Tree{parents: []int{Root}}
+}
+
+// Right tells if these may be the parents of blocks, from the root on, in whose place the root itself stands.
+func Right(parents []int) bool {
+	if len(parents) < 1 || len(parents) > api.MaxBlocks || parents[Root] != Root {
+		return false
+	}
+	for block := 1; block < len(parents); block++ {
+		if parents[block] < 0 || parents[block] >= block {
+			return false
+		}
+	}
+	return true
+}
+
+// Grown is a Tree whose blocks have these parents, which are right.
+func Grown(parents []int) Tree {
+	return Tree{parents: slices.Clone(parents)}
 }
 
 // Count tells how many blocks there are.
@@ -67,6 +90,11 @@ func (t *Tree) IsAhead(block int, other int) bool {
 		}
 	}
 	return false
+}
+
+// Agree tells if two blocks are the same, or one is ahead of the other.
+func (t *Tree) Agree(one int, other int) bool {
+	return one == other || t.IsAhead(one, other) || t.IsAhead(other, one)
 }
 
 // IsParent tells if a block is the parent of another one.

@@ -35,6 +35,74 @@ func TestLayAndKeep(t *testing.T) {
 	}
 }
 
+func TestRight(t *testing.T) {
+	line := make([]int, 41)
+	for block := range 40 {
+		line[block+1] = block
+	}
+	for _, x := range []struct {
+		parents []int
+		want    bool
+	}{
+		{nil, false},
+		{[]int{}, false},
+		{[]int{0}, true},
+		{[]int{1}, false},
+		{[]int{-1}, false},
+		{[]int{1, 0}, false},
+		{[]int{0, 0}, true},
+		{[]int{0, 1}, false},
+		{[]int{0, -1}, false},
+		{[]int{0, 2, 0}, false},
+		{[]int{0, 0, 1}, true},
+		{[]int{0, 0, 2}, false},
+		{[]int{0, 0, 3}, false},
+		{[]int{0, 0, -1, 0}, false},
+		{[]int{0, 0, math.MinInt}, false},
+		{[]int{0, 0, math.MaxInt}, false},
+		{line[:40], true},
+		{line, false},
+		{make([]int, 40), true},
+		{make([]int, 41), false},
+	} {
+		if got := Right(x.parents); got != x.want {
+			t.Errorf("Right(%v): %v", x.parents, got)
+		}
+	}
+}
+
+func TestGrown(t *testing.T) {
+	behind := []int{0, 0, 0, 1, 2, 3, 77, 78}
+	blocks := Grown(behind[:6])
+	for block, parent := range []int{0, 0, 1, 2, 3} {
+		if !blocks.IsParent(parent, block+1) {
+			t.Errorf("%d is not the parent of %d", parent, block+1)
+		}
+	}
+	if n := blocks.Lay(5); n != 6 || blocks.Height(6) != 4 {
+		t.Errorf("Lay: %d, want 6", n)
+	}
+	if !slices.Equal(behind, []int{0, 0, 0, 1, 2, 3, 77, 78}) {
+		t.Errorf("what was handed in was written into: %v", behind)
+	}
+	behind[5] = 4
+	if !blocks.IsParent(3, 5) {
+		t.Error("what was handed in was kept")
+	}
+}
+
+func TestAgree(t *testing.T) {
+	blocks := grown(0, 0, 1, 2, 3)
+	agree := [][]int{{0, 1, 2, 3, 4, 5}, {0, 1, 3, 5}, {0, 2, 4}, {0, 1, 3, 5}, {0, 2, 4}, {0, 1, 3, 5}}
+	for one, want := range agree {
+		for other := range agree {
+			if got := blocks.Agree(one, other); got != slices.Contains(want, other) {
+				t.Errorf("Agree(%d, %d): %v", one, other, got)
+			}
+		}
+	}
+}
+
 func TestAhead(t *testing.T) {
 	blocks := grown(0, 0, 1, 2, 3)
 	want := [][]int{nil, {0}, {0}, {1, 0}, {2, 0}, {3, 1, 0}}
